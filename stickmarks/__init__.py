@@ -1,0 +1,1 @@
+"""Stickmarks: a text with marks that stick to its signs."""
