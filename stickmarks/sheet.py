@@ -61,9 +61,25 @@ class Sheet:
         """Whether the seat on which a sign sits stands ahead of another one's."""
         return self._row.is_ahead(self._seat_of(one), self._seat_of(other))
 
+    def stretch(self, begin, end):
+        """Return the list of the shown signs from begin up to the one ahead of end, one at least."""
+        if not is_within(end, 1, self.size()) or not is_within(begin, 0, end - 1):
+            raise NoPlace("this is no stretch of one shown sign or more")
+        return self.shown()[begin:end]
+
+    def order(self):
+        """Return the list of all signs, shown or gone, in the order of the seats on which they sit."""
+        sitting = {self._seat_of(sign): sign for sign in range(self.many())}
+        return [sitting[seat] for seat in self._row.order() if seat in sitting]
+
+    def check_hand(self, hand):
+        """Refuse what is no hand of the sheet."""
+        if not is_within(hand, 0, self._hands - 1):
+            raise NoHand("this is no hand of the sheet")
+
     def put(self, hand, place, text):
         """Put a text at a place; return the number of the deed."""
-        self._check_hand(hand)
+        self.check_hand(hand)
         self._check_place(place)
         if not is_text(text) or text == "":
             raise BadText("this is no text of one letter or more")
@@ -72,21 +88,19 @@ class Sheet:
 
     def cut(self, hand, begin, end):
         """Take away the shown signs of a stretch; return the number of the deed."""
-        self._check_hand(hand)
-        self._check_stretch(begin, end)
-        signs = self.shown()[begin:end]
+        self.check_hand(hand)
+        signs = self.stretch(begin, end)
         for sign in signs:
             self._signs[sign].cutters.append(self.deeds())
         return self._note(hand, "cut", signs)
 
     def move(self, hand, begin, end, place):
         """Move the shown signs of a stretch to a place; return the number of the deed."""
-        self._check_hand(hand)
-        self._check_stretch(begin, end)
+        self.check_hand(hand)
+        signs = self.stretch(begin, end)
         self._check_place(place)
         if begin < place < end:
             raise NoPlace("a stretch is not moved into itself")
-        signs = self.shown()[begin:end]
         behind = self._seat_ahead(place)
         for sign in signs:
             behind = self._new_seat(sign, behind)
@@ -124,7 +138,7 @@ class Sheet:
 
     def last_standing(self, hand):
         """Return the greatest number of a hand's deeds that stand, or None."""
-        self._check_hand(hand)
+        self.check_hand(hand)
         for number in reversed(range(self.deeds())):
             if self._deeds[number][0] == hand and self.stands(number):
                 return number
@@ -132,23 +146,15 @@ class Sheet:
 
     def last_gone(self, hand):
         """Return the number of a hand's deed that was taken back last and does not stand, or None."""
-        self._check_hand(hand)
+        self.check_hand(hand)
         for number in reversed(list(self._gone)):
             if self._deeds[number][0] == hand:
                 return number
         return None
 
-    def _check_hand(self, hand):
-        if not is_within(hand, 0, self._hands - 1):
-            raise NoHand("this is no hand of the sheet")
-
     def _check_place(self, place):
         if not is_within(place, 0, self.size()):
             raise NoPlace("this is no place of the shown text")
-
-    def _check_stretch(self, begin, end):
-        if not is_within(end, 1, self.size()) or not is_within(begin, 0, end - 1):
-            raise NoPlace("this is no stretch of one shown sign or more")
 
     def _check_sign(self, sign):
         if not is_within(sign, 0, self.many() - 1):

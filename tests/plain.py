@@ -1,4 +1,4 @@
-"""Plain twins of a row and of a sheet: slow, by the words of the document, sharing nothing with the program."""
+"""Plain twins of the classes: slow, by the words of the document, sharing nothing with the program."""
 
 
 class PlainRow:
@@ -124,6 +124,16 @@ class PlainSheet:
                 return number
         return None
 
+    def undo(self, hand):
+        number = self.last_standing(hand)
+        self.take_back(number)
+        return number
+
+    def redo(self, hand):
+        number = self.last_gone(hand)
+        self.do_again(number)
+        return number
+
     def told(self):
         """Everything that a sheet tells, worked out anew."""
         count = len(self.letters)
@@ -164,6 +174,88 @@ def told_by_sheet(sheet, hands):
         "stands": [sheet.stands(number) for number in range(sheet.deeds())],
         "last_standing": [sheet.last_standing(hand) for hand in range(hands)],
         "last_gone": [sheet.last_gone(hand) for hand in range(hands)],
+    }
+
+
+class PlainMarks:
+    """Marks of a plain sheet as a list of all that ever were stuck, None for one that was dropped."""
+
+    def __init__(self, sheet):
+        self.sheet = sheet
+        self.stuck = []
+
+    def stick(self, hand, place):
+        self.stuck.append((hand, self.sheet.shown()[place]))
+        return len(self.stuck) - 1
+
+    def drop(self, number):
+        self.stuck[number] = None
+
+    def told(self):
+        """Everything that a row of marks tells, worked out anew."""
+        there = {number: mark for number, mark in enumerate(self.stuck) if mark is not None}
+        places = self.sheet.told()["place_of"]
+        ranks = {number: self.sheet.seats.index(self.sheet.seat(sign)) for number, (_, sign) in there.items()}
+        return {
+            "numbers": list(there),
+            "of": [[number for number in there if there[number][0] == hand] for hand in range(self.sheet.hands)],
+            "sign": [there[number][1] for number in there],
+            "told": [places[there[number][1]] for number in there],
+            "order": sorted(there, key=lambda number: (ranks[number], number)),
+        }
+
+
+def told_by_marks(marks, hands):
+    """The same of a row of marks of the program."""
+    numbers = marks.numbers()
+    return {
+        "numbers": numbers,
+        "of": [marks.of(hand) for hand in range(hands)],
+        "sign": [marks.sign(number) for number in numbers],
+        "told": [marks.told(number) for number in numbers],
+        "order": marks.order(),
+    }
+
+
+class PlainThreads:
+    """Threads of a plain sheet as a list of all that ever were tied, None for one that was dropped."""
+
+    def __init__(self, sheet):
+        self.sheet = sheet
+        self.tied = []
+
+    def tie(self, begin, end):
+        shown = self.sheet.shown()
+        self.tied.append((shown[begin], shown[end - 1]))
+        return len(self.tied) - 1
+
+    def drop(self, number):
+        self.tied[number] = None
+
+    def told(self):
+        """Everything that a row of threads tells, worked out anew."""
+        there = {number: thread for number, thread in enumerate(self.tied) if thread is not None}
+        places = self.sheet.told()["place_of"]
+        stretches = {}
+        for number, signs in there.items():
+            first, second = sorted(signs, key=lambda sign: self.sheet.seats.index(self.sheet.seat(sign)))
+            place, is_shown = places[second]
+            stretches[number] = places[first][0], place + 1 if is_shown else place
+        return {
+            "numbers": list(there),
+            "told": list(stretches.values()),
+            "over": [[number for number, (begin, end) in stretches.items() if place in range(begin, end)]
+                     for place in range(len(self.sheet.shown()))],
+        }
+
+
+def told_by_threads(threads, size):
+    """The same of a row of threads of the program, whose sheet shows so many signs."""
+    numbers = threads.numbers()
+    return {
+        "numbers": numbers,
+        "told": [threads.told(number) for number in numbers],
+        "over": [threads.over(place) for place in range(size)],
     }
 
 

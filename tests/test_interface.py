@@ -14,7 +14,14 @@ CLASSES = {
         "cut": ["hand", "begin", "end"], "move": ["hand", "begin", "end", "place"], "deeds": [],
         "deed": ["number"], "stands": ["number"], "take_back": ["number"], "do_again": ["number"],
         "last_standing": ["hand"], "last_gone": ["hand"]},
+    ("marks", "Marks"): {
+        "__init__": ["sheet"], "stick": ["hand", "place"], "drop": ["number"], "sign": ["number"],
+        "told": ["number"], "numbers": [], "of": ["hand"], "order": []},
+    ("threads", "Threads"): {
+        "__init__": ["sheet"], "tie": ["begin", "end"], "drop": ["number"], "told": ["number"], "numbers": [],
+        "over": ["place"]},
 }
+FUNCTIONS = {("undoing", "undo"): ["sheet", "hand"], ("undoing", "redo"): ["sheet", "hand"]}
 
 
 class Interface(unittest.TestCase):
@@ -31,3 +38,11 @@ class Interface(unittest.TestCase):
                 told = inspect.signature(vars(listed)[method]).parameters.values()
                 self.assertEqual([one.name for one in told], ["self"] + arguments, method)
                 self.assertTrue(all(one.default is one.empty for one in told), method)
+
+    def test_each_function_is_defined_in_its_file_and_takes_what_is_listed(self):
+        for (file, name), arguments in FUNCTIONS.items():
+            listed = getattr(importlib.import_module("stickmarks." + file), name)
+            self.assertEqual(listed.__module__, "stickmarks." + file)
+            told = inspect.signature(listed).parameters.values()
+            self.assertEqual([one.name for one in told], arguments, name)
+            self.assertTrue(all(one.default is one.empty for one in told), name)
